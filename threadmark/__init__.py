@@ -1,0 +1,1 @@
+"""Threadmark: signed words over the edges of a graph."""
