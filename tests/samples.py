@@ -64,6 +64,16 @@ def text(parts):
     return nodes + "".join(f"; {name} {min(edges[name])} {max(edges[name])}" for name in sorted(edges))
 
 
+def split(text):
+    """The sign of a word or string, 0 or 1, and its letters."""
+    return (1, text[1:]) if text[:1] == "-" else (0, text)
+
+
+def with_sign(turns, letters):
+    """The letters with the sign that so many turns leave."""
+    return "-" * (turns % 2) + letters
+
+
 def random_word(rng, names, most=12):
     """A word of these edges."""
     letters = "".join(rng.choice(names) for at in range(rng.randint(0, most))) if names else ""

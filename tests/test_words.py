@@ -1,20 +1,12 @@
 import random
 import unittest
 
-from samples import many_parts, raised, random_word
+from samples import many_parts, raised, random_word, split, with_sign
 from threadmark.errors import InvalidWord, UnknownEdge
 from threadmark.webs import Web
 from threadmark.words import check_word, contract_word, cut_word, inverse, product, reduced
 
 WRONG_LETTERS = "-y1A \n*"
-
-
-def split(word):
-    return (1, word[1:]) if word[:1] == "-" else (0, word)
-
-
-def with_sign(sign, letters):
-    return "-" * (sign % 2) + letters
 
 
 class CheckWordTest(unittest.TestCase):
