@@ -1,5 +1,6 @@
 """Webs to test with, and plain answers about them that do not use the package."""
 
+import inspect
 import random
 
 NAMES = "abcdefghijklmnopqrstuvwx"
@@ -87,3 +88,12 @@ def raised(case, error, call, *fields):
     case.assertEqual(error, caught.exception.__class__)
     shown = [value for name, value in vars(caught.exception).items() if name != "code"]
     case.assertEqual(list(fields), shown)
+
+
+def check_functions(case, modules):
+    """Checks that each module defines its functions with these parameters."""
+    for module, functions in modules.items():
+        for name, expected in functions.items():
+            function = getattr(module, name)
+            case.assertEqual(module.__name__, function.__module__)
+            case.assertEqual(expected, str(inspect.signature(function)), name)

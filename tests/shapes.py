@@ -4,6 +4,9 @@ import itertools
 
 from samples import NAMES, component, star
 
+# Seconds. A call takes a few milliseconds; a slow machine may need longer.
+QUICKLY = 2
+
 FIVE = list(itertools.combinations(range(5), 2))
 SIX = [(one, other) for one in range(3) for other in range(3, 6)]
 
@@ -143,6 +146,35 @@ def mixed_parts(rng):
             return thinned(rng, barred_parts(rng)[0])
         case 3:
             return thinned(rng, barred_parts(rng, False)[0])
+
+
+def several_parts(rng):
+    """A web of up to three parts side by side, as far as there is room."""
+    maker = Maker(rng)
+    for count in range(rng.randint(1, 3)):
+        kind = rng.choice(["five", "six", "ring", "tree", "bare"])
+        if kind == "five" and maker.spare(5, 10):
+            corners = [maker.node() for at in range(5)]
+            for one, other in FIVE:
+                maker.edge(corners[one], corners[other])
+        elif kind == "six" and maker.spare(6, 9):
+            corners = [maker.node() for at in range(6)]
+            for one, other in SIX:
+                maker.edge(corners[one], corners[other])
+        elif kind == "ring" and maker.spare(4, 4):
+            maker.divide(maker.ring(rng.randint(2, 4)))
+        elif kind == "tree" and maker.spare(3, 2):
+            maker.path(maker.node(), maker.node(), 1)
+        elif maker.spare(1, 0):
+            maker.node()
+    while rng.random() < 0.5:
+        rng.choice([maker.leaf, maker.parallel])()
+    return maker.parts()
+
+
+def full_parts(rng):
+    """Any web with twelve nodes and twenty-four edges."""
+    return {node: rng.randint(0, 1) for node in range(12)}, {name: tuple(rng.sample(range(12), 2)) for name in NAMES}
 
 
 def joined_nodes(parts):

@@ -1,7 +1,6 @@
-import inspect
 import unittest
 
-from samples import raised
+from samples import check_functions, raised
 from threadmark import barriers, drawings, errors, layouts
 from threadmark.webs import Web
 
@@ -24,11 +23,7 @@ FUNCTIONS = {
 
 class InterfaceTest(unittest.TestCase):
     def test_functions(self):
-        for module, functions in FUNCTIONS.items():
-            for name, expected in functions.items():
-                function = getattr(module, name)
-                self.assertEqual(module.__name__, function.__module__)
-                self.assertEqual(expected, str(inspect.signature(function)), name)
+        check_functions(self, FUNCTIONS)
 
 
 class CallsByNameTest(unittest.TestCase):

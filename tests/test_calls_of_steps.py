@@ -1,7 +1,7 @@
 import inspect
 import unittest
 
-from samples import raised
+from samples import check_functions, raised
 from threadmark import errors, joins, steps, strings, tables
 from threadmark.strings import SignedString
 from threadmark.webs import Web
@@ -35,11 +35,7 @@ FLIPS = [("flip", 3), ("insert", 0, "a")]
 
 class InterfaceTest(unittest.TestCase):
     def test_functions(self):
-        for module, functions in FUNCTIONS.items():
-            for name, expected in functions.items():
-                function = getattr(module, name)
-                self.assertEqual(module.__name__, function.__module__)
-                self.assertEqual(expected, str(inspect.signature(function)), name)
+        check_functions(self, FUNCTIONS)
         self.assertTrue(inspect.isgeneratorfunction(steps.words_along))
 
     def test_signed_string(self):

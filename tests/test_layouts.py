@@ -5,14 +5,13 @@ import time
 import unittest
 
 from samples import NAMES, component, many_parts, shuffled, star
-from shapes import Maker, barred_parts, flat, flat_parts, full_flat_parts, is_drawing, joined_nodes, mixed_parts
+from shapes import (
+    QUICKLY, Maker, barred_parts, flat, flat_parts, full_flat_parts, full_parts, is_drawing, joined_nodes, mixed_parts,
+)
 from threadmark.barriers import find_barrier
 from threadmark.drawings import is_flat
 from threadmark.layouts import blocks, find_drawing
 from threadmark.webs import Web
-
-# A call takes a few milliseconds; a slow machine may need longer.
-QUICKLY = 2
 
 
 def linked(edges, gone, one, other):
@@ -146,8 +145,7 @@ class FindDrawingTest(unittest.TestCase):
     def test_largest_webs_of_any_kind_end_quickly(self):
         rng = random.Random(216)
         for count in range(60):
-            edges = {name: tuple(rng.sample(range(12), 2)) for name in NAMES}
-            web = Web({node: 0 for node in range(12)}, edges)
+            web = Web(*full_parts(rng))
             started = time.monotonic()
             self.assertIsNot(find_drawing(web) is None, find_barrier(web) is None)
             self.assertLess(time.monotonic() - started, QUICKLY)

@@ -50,11 +50,16 @@ def pair_fault(web, table):
     return None
 
 
+def node_product(web, table, node):
+    """The product of the strings of the edges of a node, in ascending order."""
+    strings = [table[name] for name in web.edges_of(node)]
+    return multiply(*strings)
+
+
 def node_fault(web, table):
     """The fault of the least node with a wrong product of its edges."""
     for node in web.nodes():
-        strings = [table[name] for name in web.edges_of(node)]
-        product = multiply(*strings)
+        product = node_product(web, table, node)
         if product != signed(web.mark(node), identity(len(letters_of(product)))):
             return ("node", node)
     return None
