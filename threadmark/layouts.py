@@ -44,7 +44,8 @@ def fragment_of(web, left, orders, first):
     fragment = first
     waiting = [first]
     while waiting:
-        for node in web.ends(waiting.pop()):
+        here = waiting.pop()
+        for node in web.ends(here):
             fresh = "" if node in orders else web.edges_of(node)
             for edge in fresh:
                 if edge in left and edge not in fragment:
