@@ -1,8 +1,10 @@
-"""Notes, rules and forms by plain counting, without the package."""
+"""Notes, rules and forms by plain counting; of the package, only drawings and webs are used."""
 
 import itertools
 
 from samples import component, split, star
+from threadmark.layouts import find_drawing
+from threadmark.webs import Web
 
 
 def touching(parts, one, other):
@@ -109,3 +111,27 @@ def alone(parts, node):
     members = component(parts, node)
     marks = {member: parts[0][member] for member in members}
     return marks, {name: pair for name, pair in parts[1].items() if pair[0] in members}
+
+
+def has_flat_odd_component(parts):
+    """Whether some odd component has a flat drawing."""
+    return any(is_odd(parts, node) and find_drawing(Web(*alone(parts, node))) is not None for node in parts[0])
+
+
+def roots(parts):
+    """The least nodes of all components."""
+    return sorted({component(parts, node)[0] for node in parts[0]})
+
+
+def certifies(parts, one, other, certificate):
+    """Whether nodes, rules and components show that two words are equal, by what the document says of each."""
+    nodes, chosen, named = certificate
+    for items, known in ((nodes, parts[0]), (chosen, rules(parts)), (named, roots(parts))):
+        if len(set(items)) != len(items) or any(item not in known for item in items):
+            return False
+    (first, letters), (second, behind) = split(one), split(other)
+    word = letters + behind[::-1] + "".join(star(parts, node) for node in nodes)
+    left, notes = counted(parts, word)[1:]
+    sums = [notes_of_rule(parts, *rule) for rule in chosen] + [notes_of_component(parts, root) for root in named]
+    turns = first + second + sum(parts[0][node] for node in nodes) + sum(is_odd(parts, root) for root in named)
+    return left == "" and notes == added(sums) and turns % 2 == 0

@@ -1,8 +1,9 @@
 """Webs of which it is known whether they have a flat drawing, and plain answers that do not use the package."""
 
 import itertools
+import random
 
-from samples import NAMES, component, star
+from samples import NAMES, component, many_parts, star
 
 # Seconds. A call takes a few milliseconds; a slow machine may need longer.
 QUICKLY = 2
@@ -170,6 +171,17 @@ def several_parts(rng):
     while rng.random() < 0.5:
         rng.choice([maker.leaf, maker.parallel])()
     return maker.parts()
+
+
+def kinds_of_parts(count, seed):
+    """Webs of many kinds."""
+    rng = random.Random(seed)
+    return many_parts(count, seed) + [rng.choice([mixed_parts, several_parts])(rng) for at in range(2 * count)]
+
+
+def evened(parts):
+    """The web with all nodes even."""
+    return {node: 0 for node in parts[0]}, parts[1]
 
 
 def full_parts(rng):

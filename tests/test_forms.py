@@ -2,32 +2,24 @@ import random
 import time
 import unittest
 
-from counting import added, alone, even, fits, forms, is_a_form, is_odd, notes_of_component, strangers
-from samples import many_parts, raised, shuffled, split
-from shapes import QUICKLY, barred_parts, full_flat_parts, full_parts, mixed_parts, several_parts
+from counting import added, even, fits, forms, has_flat_odd_component, is_a_form, is_odd, notes_of_component, strangers
+from samples import raised, shuffled, split
+from shapes import (
+    QUICKLY,
+    barred_parts,
+    evened,
+    full_flat_parts,
+    full_parts,
+    kinds_of_parts,
+    mixed_parts,
+    several_parts,
+)
 from threadmark.derivations import find_derivation
 from threadmark.errors import InvalidForm
 from threadmark.forms import find_form, table_from_form
-from threadmark.layouts import find_drawing
 from threadmark.strings import multiply
 from threadmark.tables import table_fault
 from threadmark.webs import Web
-
-
-def webs(count, seed):
-    """Webs of many kinds."""
-    rng = random.Random(seed)
-    return many_parts(count, seed) + [rng.choice([mixed_parts, several_parts])(rng) for at in range(2 * count)]
-
-
-def has_flat_odd_component(parts):
-    """Whether some odd component has a flat drawing."""
-    return any(is_odd(parts, node) and find_drawing(Web(*alone(parts, node))) is not None for node in parts[0])
-
-
-def without_parity(parts):
-    """The web with all nodes even."""
-    return {node: 0 for node in parts[0]}, parts[1]
 
 
 class FindFormTest(unittest.TestCase):
@@ -43,7 +35,7 @@ class FindFormTest(unittest.TestCase):
 
     def test_forms(self):
         seen = {"none": 0, "empty": 0, "notes": 0}
-        for parts in webs(100, 341):
+        for parts in kinds_of_parts(100, 341):
             form = self.check(parts)
             seen["none" if form is None else "notes" if form else "empty"] += 1
         self.assertLess(20, min(seen.values()), seen)
@@ -71,7 +63,7 @@ class FindFormTest(unittest.TestCase):
 
     def test_equal_webs_give_equal_forms(self):
         rng = random.Random(343)
-        for parts in webs(30, 344):
+        for parts in kinds_of_parts(30, 344):
             web = Web(*parts)
             text = web.text()
             first = find_form(web)
@@ -110,7 +102,7 @@ class TableTest(unittest.TestCase):
 
     def test_forms_that_were_found(self):
         tables = 0
-        for parts in webs(100, 345):
+        for parts in kinds_of_parts(100, 345):
             form = find_form(Web(*parts))
             if form is not None:
                 self.check(parts, form)
@@ -125,7 +117,7 @@ class TableTest(unittest.TestCase):
         for count in range(80):
             parts = rng.choice([mixed_parts, several_parts])(rng)
             if find_form(Web(*parts)) is None:
-                parts = without_parity(parts)
+                parts = evened(parts)
             for form in self.fitting(rng, parts):
                 longest = max(longest, self.check(parts, form))
                 tables += 1
@@ -143,7 +135,7 @@ class TableTest(unittest.TestCase):
             self.assertLess(time.monotonic() - started, QUICKLY)
             self.assertIs(form is None, find_derivation(web) is not None)
             if form is None:
-                parts = without_parity(parts)
+                parts = evened(parts)
                 form = find_form(Web(*parts))
             started = time.monotonic()
             self.check(parts, form)
@@ -177,7 +169,7 @@ class TableTest(unittest.TestCase):
     def test_invalid_forms(self):
         rng = random.Random(349)
         refused = 0
-        for parts in webs(40, 350):
+        for parts in kinds_of_parts(40, 350):
             web = Web(*parts)
             form = find_form(web)
             basis = forms(parts)

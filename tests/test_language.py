@@ -235,7 +235,8 @@ class LanguageTest(unittest.TestCase):
             for node in ast.walk(tree):
                 if isinstance(node, ast.Call) and isinstance(node.func, ast.Attribute):
                     called.add(node.func)
-                    self.assertIn(node.func.attr, methods | BUILTIN_METHODS)
+                    if ast.unparse(node.func) != "super().__init__":
+                        self.assertIn(node.func.attr, methods | BUILTIN_METHODS)
             for node in ast.walk(tree):
                 if isinstance(node, ast.Attribute) and node not in called:
                     self.assertIn(node.attr, attributes)

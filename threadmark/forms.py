@@ -2,10 +2,10 @@
 
 from threadmark.errors import InvalidForm
 from threadmark.joins import edge_join
-from threadmark.notes import component_notes, is_form, note_of, parity_in, rule_notes, rules_of, sum_of
+from threadmark.notes import component_notes, is_form, note_of, parity_in, roots_of, rule_notes, rules_of, sum_of
 from threadmark.parity import solve
-from threadmark.signs import sign_of, signed
-from threadmark.tables import node_product
+from threadmark.signs import sign_of
+from threadmark.tables import node_product, turned_along
 
 # X is at 1 and Z at 2, so their product W is at the sum.
 LETTERS = "1XZW"
@@ -13,18 +13,27 @@ LETTERS = "1XZW"
 
 def wanted_parities(web):
     """For each component its notes, and how many of them modulo 2 the form of a table contains."""
-    roots = [component[0] for component in web.components()]
-    return [(component_notes(web, root), 1 if web.is_odd(root) else 0) for root in roots]
+    return [(component_notes(web, root), 1 if web.is_odd(root) else 0) for root in roots_of(web)]
+
+
+def form_sums(web):
+    """The notes of each rule and then of each component, and how many of them modulo 2 the form of a table contains."""
+    return [(rule_notes(web, edge, node), 0) for edge, node in rules_of(web)] + wanted_parities(web)
+
+
+def solve_for_form(web, sums):
+    """("solution", notes) with these parities, or ("contradiction", indexes) of sums that exclude each other."""
+    notes = web.notes()
+    places = {note: at for at, note in enumerate(notes)}
+    equations = [([places[note] for note in some], parity) for some, parity in sums]
+    kind, found = solve(equations, count=len(notes))
+    return (kind, [notes[at] for at in found]) if kind == "solution" else (kind, found)
 
 
 def find_form(web):
     """A form with the parities that a table needs, ascending, or None if there is none."""
-    notes = web.notes()
-    places = {note: at for at, note in enumerate(notes)}
-    sums = [(rule_notes(web, edge, node), 0) for edge, node in rules_of(web)] + wanted_parities(web)
-    equations = [([places[note] for note in some], parity) for some, parity in sums]
-    kind, found = solve(equations, count=len(notes))
-    return [notes[at] for at in found] if kind == "solution" else None
+    kind, found = solve_for_form(web, form_sums(web))
+    return found if kind == "solution" else None
 
 
 def check_form(web, form):
@@ -83,5 +92,4 @@ def table_from_form(web, form):
     # One more letter makes the number of W even, so that no square has a sign. There all strings commute.
     table = {edge: rows[edge] + ("W" if rows[edge].count("W") % 2 == 1 else "1") for edge in rows}
     wrong = [node for node in web.nodes() if sign_of(node_product(web, table, node)) != web.mark(node)]
-    turned = edge_join(web, wrong)
-    return {edge: signed(1 if edge in turned else 0, table[edge]) for edge in table}
+    return turned_along(table, edge_join(web, wrong))

@@ -38,6 +38,11 @@ def rules_of(web):
     return [(edge, node) for edge in web.edges() for node in web.nodes() if node not in web.ends(edge)]
 
 
+def roots_of(web):
+    """The least nodes of all components, ascending."""
+    return [component[0] for component in web.components()]
+
+
 def rule_notes(web, edge, node):
     """The notes of a rule, ascending. Raises UnknownEdge, UnknownNode, InvalidNode."""
     ends = web.ends(edge)
@@ -109,4 +114,4 @@ def check_note_certificate(web, node, certificate):
 
 def is_planar_by_notes(web):
     """Whether the notes of every component are a sum of rules."""
-    return all([note_certificate(web, component[0])[0] == "rules" for component in web.components()])
+    return all([note_certificate(web, root)[0] == "rules" for root in roots_of(web)])

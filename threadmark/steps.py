@@ -90,14 +90,19 @@ CHANGES = {
 }
 
 
-def word_behind(web, word, step):
-    """The word behind a step, or None if the step is invalid."""
+def change_by_step(web, letters, step):
+    """What a step does, or None if it is invalid."""
     if not has_form(step):
         return None
-    letters = letters_of(word)
     change_by = CHANGES[step[0]]
     parts = step[1:]
-    change = change_by(web, letters, *parts)
+    return change_by(web, letters, *parts)
+
+
+def word_behind(web, word, step):
+    """The word behind a step, or None if the step is invalid."""
+    letters = letters_of(word)
+    change = change_by_step(web, letters, step)
     if change is None:
         return None
     start, stop, fresh, turns = change

@@ -87,6 +87,11 @@ def size_of(table):
     return len(letters_of(table[min(list(table))])) if table else 0
 
 
+def turned_along(table, edges):
+    """The table with the other sign for each edge in a text."""
+    return {name: signed(sign_of(table[name]) + edges.count(name), letters_of(table[name])) for name in table}
+
+
 def value_of(table, word):
     """The value of a word in a table whose strings have one length. Raises InvalidWord."""
     letters = letters_of(word)
