@@ -215,7 +215,8 @@ class LanguageTest(unittest.TestCase):
                 for node in ast.walk(item):
                     if isinstance(node, ast.FunctionDef):
                         kinds = [ast.unparse(deco) for deco in node.decorator_list]
-                        (properties if "property" in kinds else methods).add(node.name)
+                        is_property = "property" in kinds or f"{node.name}.setter" in kinds
+                        (properties if is_property else methods).add(node.name)
                     elif isinstance(node, ast.Attribute) and isinstance(node.ctx, ast.Store):
                         attributes.add(node.attr)
                 values |= {node.targets[0].id for node in item.body if isinstance(node, ast.Assign)}
@@ -237,8 +238,9 @@ class LanguageTest(unittest.TestCase):
                     called.add(node.func)
                     if ast.unparse(node.func) != "super().__init__":
                         self.assertIn(node.func.attr, methods | BUILTIN_METHODS)
+            above = {deco for node in ast.walk(tree) for deco in getattr(node, "decorator_list", [])}
             for node in ast.walk(tree):
-                if isinstance(node, ast.Attribute) and node not in called:
+                if isinstance(node, ast.Attribute) and node not in called | above:
                     self.assertIn(node.attr, attributes)
 
     @for_each_file
