@@ -172,6 +172,18 @@ class CloneTest(unittest.TestCase):
         self.assertEqual("0 1* 2; a 0 1; b 0 2; c 1 2", twin.web("k").text())
         self.assertEqual(([], (3, 0)), (shop.names(), shop.history()))
 
+    def test_caches_are_not_shared(self):
+        shop = Workshop()
+        shop.apply_all([("add", "k", Web.complete(3)), ("add", "m", Web.complete(3))])
+        shop.certificate("k")
+        twin = shop.clone()
+        twin.certificate("m")
+        self.assertEqual((["k"], 1), (shop.cached(), shop.computations()))
+        self.assertEqual((["k", "m"], 2), (twin.cached(), twin.computations()))
+        again = twin.clone()
+        twin.apply(("turn", "k", 0))
+        self.assertEqual((["m"], ["k", "m"]), (twin.cached(), again.cached()))
+
     def test_clone_of_an_empty_workshop(self):
         shop = Workshop()
         twin = shop.clone()

@@ -19,13 +19,13 @@ def dump(workshop):
 def entry_in(line):
     """The name and the web of a line, or None if it is not the line of a web."""
     name, colon, text = line.partition(":")
-    if colon == "" or not is_web_name(name):
+    if not is_web_name(name):
         return None
     try:
         web = Web.parse(text.removeprefix(" "))
     except ParseError:
         return None
-    # A space too many or too few only shows when the line is written again.
+    # A missing colon, or a space too many or too few, only shows when the line is written again.
     return (name, web) if line_of(name, web) == line else None
 
 
