@@ -21,30 +21,18 @@ CARRIES = (
 )
 
 
-def forced_walk(rng, parts, edge, count):
-    """Steps from a word among which many insert, cancel, swap, spread or gather an edge, or are at its ends."""
-    words = [with_stars(rng, parts, 1)]
-    steps = []
-    while len(steps) < count:
-        kinds = {}
-        for step in valid_steps(rng, parts, words[-1]):
-            letters = split(words[-1])[1]
-            if step[0] == "flip":
-                near = True
-            elif step[0] in ("spread", "gather"):
-                near = step[2] in parts[1][edge]
-            elif step[0] == "insert":
-                near = step[2] == edge
-            else:
-                near = edge in letters[step[1]:step[1] + 2]
-            if near and (step[0] != "insert" or len(letters) < 30):
-                kinds.setdefault(step[0], []).append(step)
-        if not kinds:
-            break
-        step = rng.choice(kinds[rng.choice(sorted(kinds))])
-        steps.append(step)
-        words.append(model(parts, words[-1], step))
-    return steps, words
+def walk_around(rng, parts, edge, count):
+    """Steps that insert, cancel, swap, spread or gather an edge or are at its ends, and the words along them."""
+    def wanted(word, step):
+        match step:
+            case ["spread" | "gather", _, node, _]:
+                return node in parts[1][edge]
+            case ["insert", _, name]:
+                return name == edge
+            case ["cancel" | "swap", at]:
+                return edge in split(word)[1][at:at + 2]
+        return True
+    return walk(rng, parts, with_stars(rng, parts, 1), count, wanted)
 
 
 class CarryTest(unittest.TestCase):
@@ -82,7 +70,7 @@ class CarryTest(unittest.TestCase):
         seen = dict.fromkeys(KINDS, 0)
         for parts in [PAIR, MIXED, MIXED] + many_parts(60, 465, 5, 7):
             for edge in parts[1]:
-                steps, words = forced_walk(rng, parts, edge, rng.randint(1, 10))
+                steps, words = walk_around(rng, parts, edge, rng.randint(1, 10))
                 for step in steps:
                     seen[step[0]] += 1
                 for carry, smaller, image in CARRIES:
@@ -114,7 +102,7 @@ class CarryTest(unittest.TestCase):
             for edge in parts[1]:
                 low, high = sorted(parts[1][edge])
                 parallel = sum(set(pair) == {low, high} for pair in parts[1].values()) > 1
-                steps, words = forced_walk(rng, parts, edge, 6)
+                steps, words = walk_around(rng, parts, edge, 6)
                 ends = {step[2] for step in steps if step[0] in ("spread", "gather")}
                 if {low, high} <= ends:
                     seen.add((parts[0][low], parts[0][high], parallel))

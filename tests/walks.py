@@ -75,14 +75,15 @@ def with_stars(rng, parts, most=4):
     return rng.choice(["", "-"]) + "".join(pieces)
 
 
-def walk(rng, parts, word, count):
-    """So many valid steps from a word, and the words along them; fewer if none can be done."""
+def walk(rng, parts, word, count, wanted=lambda word, step: True):
+    """So many valid and wanted steps from a word, and the words along them; fewer if none can be done."""
     steps = []
     words = [word]
     while len(steps) < count:
         kinds = {}
         for step in valid_steps(rng, parts, words[-1]):
-            kinds.setdefault(step[0], []).append(step)
+            if wanted(words[-1], step):
+                kinds.setdefault(step[0], []).append(step)
         if len(words[-1]) > 40:
             kinds.pop("insert", None)
         if not kinds:
